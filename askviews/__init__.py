@@ -1,0 +1,1 @@
+"""Askviews: questions over tables, answered from kept views."""

@@ -1,0 +1,185 @@
+"""The rules of the language that can be read off a file's rows and tree; the others are for a reader."""
+
+import ast
+import builtins
+import os
+import re
+import unittest
+
+PACKAGE = "askviews"
+FOLDER = os.path.join(os.path.dirname(os.path.dirname(os.path.abspath(__file__))), PACKAGE)
+OWN_NAMES = set("""len range enumerate zip min max sum abs sorted reversed int str bool list tuple dict set frozenset
+isinstance ord repr any all divmod Exception ValueError TypeError KeyError IndexError LookupError ZeroDivisionError
+ArithmeticError OverflowError RuntimeError NotImplementedError AttributeError StopIteration""".split())
+METHODS = set("""append clear copy count endswith extend find get index insert isalnum isalpha isdigit islower isspace
+isupper items join keys ljust lower lstrip partition pop remove replace reverse rfind rjust rpartition rsplit rstrip
+setdefault split splitlines startswith strip update upper values zfill bit_length""".split())
+DUNDERS = set("__init__ __eq__ __repr__ __str__ __len__".split())
+NEVER = set("register mro elements open input version_info with_traceback add_note format format_map".split())
+WORDS = re.compile(r"\b(type|typing|typing_extensions|enum|Enum|IntEnum|StrEnum|Flag|IntFlag|Generic|Protocol|ABC"
+                   r"|ABCMeta|namedtuple|NamedTuple|TypedDict|TYPE_CHECKING|abstractmethod)\b"
+                   r"|dataclass|overload|contextmanager")
+KINDS = set("""Module FunctionDef arguments arg ClassDef Return Assign AugAssign For While If Raise Try ExceptHandler
+ImportFrom alias Expr Pass Break Continue BoolOp BinOp UnaryOp Lambda IfExp Dict Set ListComp comprehension Compare
+Call keyword FormattedValue JoinedStr Constant Attribute Subscript Name List Tuple Slice Load Store And Or Not USub
+Invert Add Sub Mult FloorDiv Mod Pow LShift RShift BitOr BitXor BitAnd Eq NotEq Lt LtE Gt GtE Is IsNot In
+NotIn""".split())
+
+
+def row_faults(source):
+    rows = source.split("\n")
+    faults = ["L10 file"] if len(rows) > 401 else []
+    for number, row in enumerate(rows, start=1):
+        if len(row) > 120:
+            faults.append(f"L10 row {number}")
+        if any(not " " <= sign <= "~" for sign in row):
+            faults.append(f"L14 row {number}")
+        if WORDS.search(row):
+            faults.append(f"L17 row {number}")
+    return faults
+
+
+def is_doc(node):
+    return isinstance(node, ast.Expr) and isinstance(node.value, ast.Constant) and isinstance(node.value.value, str)
+
+
+def top_faults(tree):
+    faults = []
+    for place, node in enumerate(tree.body):
+        if not isinstance(node, (ast.ImportFrom, ast.FunctionDef, ast.ClassDef, ast.Assign)):
+            if not (place == 0 and is_doc(node)):
+                faults.append(f"L3 row {node.lineno}")
+    for node in ast.walk(tree):
+        if isinstance(node, (ast.ImportFrom, ast.ClassDef)) and node not in tree.body:
+            faults.append(f"L2 or L15 row {node.lineno}")
+    return faults
+
+
+def is_right_import(node):
+    right = node.level == 0 and (node.module.startswith(PACKAGE + ".") or node.module == "__future__")
+    return right and all(name.name != "*" and name.asname is None for name in node.names)
+
+
+def is_right_function(node):
+    given = node.args
+    plain = not (given.vararg or given.kwarg or given.kwonlyargs or given.posonlyargs or node.decorator_list)
+    return plain and node.end_lineno - node.lineno < 40 and not NEVER & {node.name} and is_right_name(node.name, True)
+
+
+def is_right_class(node):
+    body = [inner for inner in node.body if not isinstance(inner, (ast.FunctionDef, ast.Pass)) and not is_doc(inner)]
+    return not body and len(node.bases) <= 1 and not node.keywords and not node.decorator_list
+
+
+def is_right_name(name, method=False):
+    return bool(re.fullmatch(r"[A-Za-z][A-Za-z0-9_]*", name)) or (method and name in DUNDERS)
+
+
+def is_right_use(node):
+    if isinstance(node.ctx, ast.Store) and node.id in dir(builtins):
+        return False
+    known = node.id in OWN_NAMES or node.id not in dir(builtins)
+    return known and node.id not in NEVER and is_right_name(node.id)
+
+
+def is_single(node):
+    return isinstance(node, ast.Constant) and any(node.value is single for single in (None, True, False))
+
+
+def is_right_compare(node):
+    beside = [node.left] + node.comparators
+    for place, sign in enumerate(node.ops):
+        if isinstance(sign, (ast.Is, ast.IsNot)) and not (is_single(beside[place]) or is_single(beside[place + 1])):
+            return False
+    return True
+
+
+def is_right_constant(node):
+    plain = node.value is None or isinstance(node.value, (bool, int, str))
+    return plain and not (isinstance(node.value, str) and "%" in node.value)
+
+
+def is_right_power(node):
+    return not isinstance(node.op, ast.Pow) or isinstance(node.right, ast.Constant)
+
+
+def is_right(node):
+    checks = (
+        (ast.ImportFrom, is_right_import),
+        (ast.FunctionDef, is_right_function),
+        (ast.ClassDef, is_right_class),
+        (ast.Name, is_right_use),
+        (ast.arg, lambda one: is_right_name(one.arg) and one.arg not in dir(builtins)),
+        (ast.Attribute, lambda one: one.attr not in NEVER and is_right_name(one.attr, True)),
+        (ast.Compare, is_right_compare),
+        (ast.Constant, is_right_constant),
+        (ast.BinOp, is_right_power),
+        (ast.FormattedValue, lambda one: isinstance(one.value, ast.Name) and one.format_spec is None),
+        (ast.Assign, lambda one: len(one.targets) == 1),
+        (ast.ListComp, lambda one: len(one.generators) == 1 and len(one.generators[0].ifs) <= 1),
+        (ast.Try, lambda one: not one.finalbody),
+        (ast.ExceptHandler, lambda one: one.type is not None),
+        ((ast.For, ast.While), lambda one: not one.orelse),
+        (ast.Expr, lambda one: isinstance(one.value, ast.Call) or is_doc(one)),
+    )
+    return type(node).__name__ in KINDS and all(check(node) for kind, check in checks if isinstance(node, kind))
+
+
+def faults_of(source, own_methods=()):
+    tree = ast.parse(source)
+    faults = row_faults(source) + top_faults(tree)
+    for node in ast.walk(tree):
+        if not is_right(node):
+            faults.append(f"{type(node).__name__} row {getattr(node, 'lineno', 0)}")
+        if isinstance(node, ast.Call) and isinstance(node.func, ast.Attribute):
+            if node.func.attr not in METHODS and node.func.attr not in own_methods and node.func.attr != "__init__":
+                faults.append(f"L25 {node.func.attr} row {node.lineno}")
+    return faults
+
+
+def methods_of(source):
+    classes = [node for node in ast.parse(source).body if isinstance(node, ast.ClassDef)]
+    return [inner.name for node in classes for inner in node.body if isinstance(inner, ast.FunctionDef)]
+
+
+class Language(unittest.TestCase):
+    def sources(self):
+        told = {}
+        for name in sorted(os.listdir(FOLDER)):
+            if name != "__pycache__":
+                with open(os.path.join(FOLDER, name), encoding="utf-8", newline="") as file:
+                    told[name] = file.read()
+        return told
+
+    def test_files(self):
+        names = list(self.sources())
+        self.assertIn("__init__.py", names)
+        for name in names:
+            self.assertRegex(name, r"\A([a-z][a-z0-9_]*|__init__)\.py\Z")
+
+    def test_each_file_keeps_to_the_rules(self):
+        sources = self.sources()
+        own = [name for source in sources.values() for name in methods_of(source)]
+        for name, source in sources.items():
+            with self.subTest(file=name):
+                self.assertEqual(faults_of(source, own), [])
+
+    def test_faults_are_seen(self):
+        for source in (
+            "import os\n", "from .terms import x\n", "from os import path\n", "from askviews.terms import *\n",
+            "x = 1.5\n", "x = b''\n", "x = 3 / 2\n", "x = y = 1\n", "print(1)\n", "x = 'a\u00e9'\n", "x = '%'\n",
+            "def f(*a):\n    return a\n", "def f(a):\n    yield a\n", "def f(a):\n    return hash(a)\n",
+            "def f(a):\n    return a.title()\n", "def f(a):\n    return a is 'b'\n", "def f(list):\n    return 1\n",
+            "def f(a):\n    return {b for b in a}\n", "def f(a):\n    return all(b for b in a)\n",
+            "def f(a):\n    _x = a\n    return _x\n", "class A:\n    x = 1\n", "x = 1  # its type\n",
+            "def f(a):\n    for b in a:\n        pass\n    else:\n        return 1\n", "x = 1\t\n",
+            "def f(a):\n    return 2 ** a\n", "def f(a):\n" + "    a = a\n" * 40, "x = 1\n" * 401,
+            "x = '" + "a" * 120 + "'\n", "def f(a):\n    assert a\n", "def f(a):\n    a\n",
+            "def f(a):\n    return f'{a + 1}'\n", "def f(a):\n    return f'{a:3}'\n",
+        ):
+            with self.subTest(source=source[:60]):
+                self.assertNotEqual(faults_of(source), [])
+
+
+if __name__ == "__main__":
+    unittest.main()
