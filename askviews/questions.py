@@ -1,6 +1,6 @@
 """Questions: a head, and the atoms that its unknowns stand in."""
 
-from askviews.terms import are_terms, is_atom, is_pair, is_unknown, is_value
+from askviews.terms import are_terms, is_atom, is_pair, is_unknown
 
 MOST_ATOMS = 8
 
@@ -14,8 +14,7 @@ def are_atoms(thing):
 def is_question(thing):
     if not (is_pair(thing) and are_terms(thing[0], 0) and are_atoms(thing[1])):
         return False
-    bound = unknowns_of(thing)
-    return all([is_value(term) or term in bound for term in thing[0]])
+    return loose_unknowns(thing) == []
 
 
 def unknowns_of(question):
@@ -26,3 +25,8 @@ def unknowns_of(question):
             if is_unknown(term):
                 found[term] = True
     return list(found)
+
+
+def loose_unknowns(question):
+    bound = unknowns_of(question)
+    return [term for term in question[0] if is_unknown(term) and term not in bound]
