@@ -27,6 +27,13 @@ def unknowns_of(question):
     return list(found)
 
 
+def terms_of(question):
+    found = list(question[0])
+    for atom in question[1]:
+        found.extend(atom[1])
+    return found
+
+
 def loose_unknowns(question):
     bound = unknowns_of(question)
     return [term for term in question[0] if is_unknown(term) and term not in bound]

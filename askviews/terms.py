@@ -33,3 +33,14 @@ def are_terms(thing, fewest):
 
 def is_atom(thing):
     return is_pair(thing) and is_value(thing[0]) and are_terms(thing[1], 1)
+
+
+def new_values(count, taken):
+    found = []
+    number = 0
+    while len(found) < count:
+        value = "n" + str(number)
+        if value not in taken:
+            found.append(value)
+        number += 1
+    return found

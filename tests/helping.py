@@ -1,5 +1,7 @@
-"""What the files of tests share: plain things to put at each place, and how a truth is looked at."""
+"""What the files of tests share: plain things to put at each place, questions and tables by chance, and what the
+document says of maps, answers and told things, said again as plainly as can be."""
 
+import itertools
 import reprlib
 import unittest
 
@@ -28,3 +30,103 @@ def deep_things():
         deep_list = [deep_list]
         deep_dict = {"a": deep_dict}
     return [deep_tuple, deep_list, deep_dict]
+
+
+def unknowns_plainly(question):
+    return sorted(set([term for name, terms in question[1] for term in terms if term[0] == "?"]))
+
+
+def values_of(question):
+    terms = list(question[0]) + [term for name, terms in question[1] for term in terms]
+    return sorted(set([term for term in terms if term[0] != "?"]))
+
+
+def counted_plainly(question, tables):
+    """As 10 says it: every map to any values is tried."""
+    head, atoms = question
+    values = sorted(set([value for rows in tables.values() for row in rows for value in row]))
+    unknowns = unknowns_plainly(question)
+    counts = {}
+    for chosen in itertools.product(values, repeat=len(unknowns)):
+        given = dict(zip(unknowns, chosen))
+        images = [(name, tuple([given.get(term, term) for term in terms])) for name, terms in atoms]
+        if all([row in tables.get(name, []) for name, row in images]):
+            answer = tuple([given.get(term, term) for term in head])
+            counts[answer] = counts.get(answer, 0) + 1
+    return sorted(counts.items())
+
+
+def answers_plainly(question, tables):
+    return [row for row, count in counted_plainly(question, tables)]
+
+
+def is_map_plainly(one, other, pairs):
+    """As 11 says it, each of its words by itself."""
+    terms_of_one = set(one[0]) | set([term for name, terms in one[1] for term in terms])
+    given = dict(pairs)
+    just_the_unknowns = [unknown for unknown, term in pairs] == unknowns_plainly(other)
+    terms_of_the_one = all([term in terms_of_one for unknown, term in pairs])
+    the_head = [given.get(term, term) for term in other[0]] == list(one[0])
+    images = [[name] + [given.get(term, term) for term in terms] for name, terms in other[1]]
+    each_atom = all([image in [[name] + list(terms) for name, terms in one[1]] for image in images])
+    return just_the_unknowns and terms_of_the_one and the_head and each_atom
+
+
+def maps_plainly(one, other):
+    """All maps from the other one to the one: every way to give terms is tried."""
+    terms = sorted(set([term for name, terms in one[1] for term in terms]))
+    unknowns = unknowns_plainly(other)
+    tried = [list(zip(unknowns, chosen)) for chosen in itertools.product(terms, repeat=len(unknowns))]
+    return [pairs for pairs in tried if is_map_plainly(one, other, pairs)]
+
+
+def are_told_tables(tables):
+    """As 8 says it of tables that are told."""
+    if type(tables) is not dict:
+        return False
+    return all([type(name) is str and type(rows) is list and len(rows) > 0 and rows == sorted(set(rows))
+                and all([type(row) is tuple for row in rows]) for name, rows in tables.items()])
+
+
+def holders(thing):
+    """All lists and dicts in what is told, one that stands at two places twice."""
+    inner = list(thing.values()) if isinstance(thing, dict) else thing if isinstance(thing, (list, tuple)) else []
+    found = [thing] if isinstance(thing, (list, dict)) else []
+    for held in inner:
+        found.extend(holders(held))
+    return found
+
+
+def spoil(thing):
+    """Changes whatever can be changed in what is told."""
+    for held in holders(thing):
+        if isinstance(held, list):
+            held.append("spoilt")
+            held[0] = None
+        else:
+            held["spoilt"] = None
+
+
+def some_atoms(chance, names, terms, fewest, most, longest):
+    atoms = []
+    for unused in range(chance.randrange(fewest, most + 1)):
+        length = chance.randrange(1, longest + 1)
+        atoms.append((chance.choice(names), tuple([chance.choice(terms) for unused in range(length)])))
+    return tuple(atoms)
+
+
+def some_question(chance, names, terms, fewest, most, longest, longest_head):
+    atoms = some_atoms(chance, names, terms, fewest, most, longest)
+    heads = unknowns_plainly(((), atoms)) * 2 + [term for term in terms if term[0] != "?"][:1]
+    length = chance.randrange(longest_head + 1) if heads else 0
+    return (tuple([chance.choice(heads) for unused in range(length)]), atoms)
+
+
+def some_tables(chance, names, values, most, longest):
+    tables = {}
+    for name in names:
+        rows = []
+        for unused in range(chance.randrange(most + 1)):
+            rows.append(tuple([chance.choice(values) for unused in range(chance.randrange(1, longest + 1))]))
+        tables[name] = rows
+    return tables

@@ -6,31 +6,13 @@ import unittest
 from askviews.answers import answers, counted
 from askviews.questions import unknowns_of
 from askviews.questiontexts import read
+from tests.helping import counted_plainly
 
 TABLES = {
     "r": [("1", "2"), ("2", "3"), ("1", "3"), ("3", "3")],
     "s": [("3", "a"), ("2", "a"), ("2", "b")],
     "t": [("1",), ("3",)],
 }
-
-
-def given_all(question, values):
-    unknowns = unknowns_of(question)
-    for chosen in itertools.product(values, repeat=len(unknowns)):
-        yield dict(zip(unknowns, chosen))
-
-
-def counted_plainly(question, tables):
-    """As 10 says it: every map to any values is tried."""
-    head, atoms = question
-    values = sorted(set([value for rows in tables.values() for row in rows for value in row]))
-    counts = {}
-    for given in given_all(question, values):
-        images = [(name, tuple([given.get(term, term) for term in terms])) for name, terms in atoms]
-        if all([row in tables.get(name, []) for name, row in images]):
-            answer = tuple([given.get(term, term) for term in head])
-            counts[answer] = counts.get(answer, 0) + 1
-    return sorted(counts.items())
 
 
 class Asked(unittest.TestCase):
@@ -188,6 +170,33 @@ class Promise10MoreAtoms(Asked):
         self.tells(((), (("u", ("?x",)),) + free), tables, [])
         fixed = tuple([("s", ("?" + str(number),)) for number in range(8)])
         self.tells((("?0", "?7"), fixed + free), tables, [(("v0", "v0"), 1)])
+
+
+class Promise9ToldTables(Asked):
+    """Tables that were told may be handed in again, and a question may have more maps there than are bounded."""
+
+    def test_many_maps_to_rows_that_stand_apart(self):
+        rows = [("a" + str(number), "b" + str(number)) for number in range(8)]
+        atoms = tuple([("r", ("?a" + str(number), "?b" + str(number))) for number in range(8)])
+        self.tells(((), atoms), {"r": rows}, [((), 8 ** 8)])
+        self.tells((("?b3",), atoms), {"r": rows}, [(("b" + str(number),), 8 ** 7) for number in range(8)])
+        told = counted((("?b3", "?a3", "?a6"), atoms), {"r": rows})
+        self.assertEqual(told, [(("b" + str(first), "a" + str(first), "a" + str(second)), 8 ** 6)
+                                for first in range(8) for second in range(8)])
+        self.tells(((), atoms + (("r", ("?a0", "?b1")),)), {"r": rows}, [((), 8 ** 7)])
+        self.tells(((), atoms + (("r", ("?a0", "?a0")),)), {"r": rows}, [])
+
+    def test_many_maps_to_a_star(self):
+        rows = [("c", "b" + str(number)) for number in range(8)]
+        atoms = tuple([("r", ("?c", "?" + str(number))) for number in range(8)])
+        self.tells(((), atoms), {"r": rows}, [((), 8 ** 8)])
+        self.tells((("?c",), atoms), {"r": rows}, [(("c",), 8 ** 8)])
+        self.tells((("?0",), atoms * 2), {"r": rows[:4]}, [(("b" + str(number),), 4 ** 7) for number in range(4)])
+
+    def test_an_unknown_that_comes_again_behind_others(self):
+        rows = [("1", "2"), ("2", "1"), ("1", "1")]
+        text = "?y : r ?x ?y , r ?z ?u , r ?v ?w , r ?y ?x , r ?w ?v , r ?u ?u"
+        self.tells(text, {"r": rows}, counted_plainly(read(text), {"r": rows}))
 
 
 class Promise10Plainly(Asked):

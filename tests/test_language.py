@@ -19,6 +19,11 @@ NEVER = set("register mro elements open input version_info with_traceback add_no
 WORDS = re.compile(r"\b(type|typing|typing_extensions|enum|Enum|IntEnum|StrEnum|Flag|IntFlag|Generic|Protocol|ABC"
                    r"|ABCMeta|namedtuple|NamedTuple|TypedDict|TYPE_CHECKING|abstractmethod)\b"
                    r"|dataclass|overload|contextmanager")
+WALKED = set("zip enumerate reversed range".split())
+WALKED_METHODS = set("items keys values".split())
+WALKERS = set("list tuple dict sorted sum any all enumerate zip".split())
+KEYWORDS = {"sorted": {"key", "reverse"}, "min": {"key", "default"}, "max": {"key", "default"}, "sum": {"start"},
+            "enumerate": {"start"}, "zip": {"strict"}}
 KINDS = set("""Module FunctionDef arguments arg ClassDef Return Assign AugAssign For While If Raise Try ExceptHandler
 ImportFrom alias Expr Pass Break Continue BoolOp BinOp UnaryOp Lambda IfExp Dict Set ListComp comprehension Compare
 Call keyword FormattedValue JoinedStr Constant Attribute Subscript Name List Tuple Slice Load Store And Or Not USub
@@ -125,9 +130,105 @@ def is_right(node):
     return type(node).__name__ in KINDS and all(check(node) for kind, check in checks if isinstance(node, kind))
 
 
+def called(node, names):
+    return isinstance(node, ast.Call) and isinstance(node.func, ast.Name) and node.func.id in names
+
+
+def parents_of(tree):
+    parents = {}
+    for node in ast.walk(tree):
+        for inner in ast.iter_child_nodes(node):
+            parents[inner] = node
+    return parents
+
+
+def is_walked_thing(node):
+    method = isinstance(node, ast.Call) and isinstance(node.func, ast.Attribute) and node.func.attr in WALKED_METHODS
+    return method or called(node, WALKED)
+
+
+def is_walked_at_once(node, parent):
+    if isinstance(parent, (ast.For, ast.comprehension)):
+        return parent.iter is node
+    if called(parent, WALKERS):
+        return parent.args[0] is node
+    if called(parent, {"min", "max"}):
+        return len(parent.args) == 1 and not parent.keywords
+    written = isinstance(parent, ast.Call) and isinstance(parent.func, ast.Attribute) and parent.func.attr == "join"
+    return written and isinstance(parent.func.value, ast.Constant)
+
+
+def is_set(node):
+    return isinstance(node, ast.Set) or called(node, {"set", "frozenset"})
+
+
+def is_right_set(node, parents):
+    parent = parents[node]
+    while isinstance(parent, ast.BinOp) and isinstance(parent.op, (ast.Sub, ast.BitAnd, ast.BitOr, ast.BitXor)):
+        parent = parents[parent]
+    if isinstance(parent, ast.Compare):
+        return all(isinstance(sign, (ast.In, ast.NotIn, ast.Eq, ast.NotEq)) for sign in parent.ops)
+    return called(parent, {"sorted", "len"}) and not parent.keywords
+
+
+def place_faults(tree):
+    parents = parents_of(tree)
+    faults = []
+    for node in ast.walk(tree):
+        if is_walked_thing(node) and not is_walked_at_once(node, parents[node]):
+            faults.append(f"L23 row {node.lineno}")
+        if is_set(node) and not is_right_set(node, parents):
+            faults.append(f"L24 row {node.lineno}")
+        if called(node, OWN_NAMES) and {word.arg for word in node.keywords} - KEYWORDS.get(node.func.id, set()):
+            faults.append(f"L22 row {node.lineno}")
+    return faults
+
+
+def bound_at_top(tree):
+    names = []
+    for node in tree.body:
+        if isinstance(node, (ast.FunctionDef, ast.ClassDef)):
+            names.append(node.name)
+        if isinstance(node, ast.Assign):
+            names.extend([target.id for target in node.targets if isinstance(target, ast.Name)])
+    return names
+
+
+def drawn(tree):
+    return [(node.module, name.name) for node in tree.body if isinstance(node, ast.ImportFrom) for name in node.names]
+
+
+def name_faults(tree):
+    imported = [name for module, name in drawn(tree)]
+    top = bound_at_top(tree) + imported
+    faults = [f"L15 {name} twice" for name in sorted(set(top)) if top.count(name) > 1]
+    kept_free = set(imported) | {node.name for node in tree.body if isinstance(node, ast.ClassDef)}
+    for node in ast.walk(tree):
+        name = node.arg if isinstance(node, ast.arg) else None
+        if isinstance(node, ast.Name) and isinstance(node.ctx, ast.Store):
+            name = node.id
+        if name in kept_free:
+            faults.append(f"L15 {name} row {node.lineno}")
+    return faults
+
+
+def import_faults(trees):
+    """Of a dict from modules to trees: each name drawn from the file that defines it, and no two from one another."""
+    faults = []
+    reached = {module: {other for other, name in drawn(tree)} for module, tree in trees.items()}
+    for module, tree in trees.items():
+        for other, name in drawn(tree):
+            if other not in trees or name not in bound_at_top(trees[other]):
+                faults.append(f"L16 {module} draws {name}")
+    for unused in trees:
+        reached = {module: others.union(*[reached.get(other, set()) for other in others])
+                   for module, others in reached.items()}
+    return faults + [f"L16 {module} in a ring" for module, others in reached.items() if module in others]
+
+
 def faults_of(source, own_methods=()):
     tree = ast.parse(source)
-    faults = row_faults(source) + top_faults(tree)
+    faults = row_faults(source) + top_faults(tree) + place_faults(tree) + name_faults(tree)
     for node in ast.walk(tree):
         if not is_right(node):
             faults.append(f"{type(node).__name__} row {getattr(node, 'lineno', 0)}")
@@ -164,6 +265,35 @@ class Language(unittest.TestCase):
             with self.subTest(file=name):
                 self.assertEqual(faults_of(source, own), [])
 
+    def test_what_the_files_draw_from_one_another(self):
+        trees = {}
+        for name, source in self.sources().items():
+            trees[PACKAGE + "." + name[:-3] if name != "__init__.py" else PACKAGE] = ast.parse(source)
+        self.assertEqual(import_faults(trees), [])
+
+    def test_faults_of_drawing_are_seen(self):
+        defined = "def f():\n    return 1\n"
+        drawing = "from askviews.a import f\n"
+        for sources in (
+            {"askviews.a": "x = 1\n", "askviews.b": drawing},
+            {"askviews.a": defined, "askviews.b": drawing, "askviews.c": "from askviews.b import f\n"},
+            {"askviews.a": defined + "from askviews.b import g\n", "askviews.b": drawing + "def g():\n    return 1\n"},
+            {"askviews.b": drawing},
+        ):
+            trees = {module: ast.parse(source) for module, source in sources.items()}
+            self.assertNotEqual(import_faults(trees), [])
+        self.assertEqual(import_faults({"askviews.a": ast.parse(defined), "askviews.b": ast.parse(drawing)}), [])
+
+    def test_right_forms_are_no_faults(self):
+        for source in (
+            "def f(a):\n    return sorted(set(a))\n", "def f(a, b):\n    return set(a) == set(b)\n",
+            "def f(a, b):\n    return len(set(a) | set(b))\n", "def f(a):\n    return sorted(a.items())\n",
+            "def f(a):\n    return dict(zip(a, a))\n", "def f(a):\n    return [b for b in range(a)]\n",
+            "def f(a):\n    return max(a, key=lambda b: b[0])\n", "def f(a, b=None):\n    return f(a, b=a)\n",
+        ):
+            with self.subTest(source=source):
+                self.assertEqual(faults_of(source), [])
+
     def test_faults_are_seen(self):
         for source in (
             "import os\n", "from .terms import x\n", "from os import path\n", "from askviews.terms import *\n",
@@ -176,6 +306,13 @@ class Language(unittest.TestCase):
             "def f(a):\n    return 2 ** a\n", "def f(a):\n" + "    a = a\n" * 40, "x = 1\n" * 401,
             "x = '" + "a" * 120 + "'\n", "def f(a):\n    assert a\n", "def f(a):\n    a\n",
             "def f(a):\n    return f'{a + 1}'\n", "def f(a):\n    return f'{a:3}'\n",
+            "def f(a):\n    b = set(a)\n    return b\n", "def f(a):\n    return [b for b in set(a)]\n",
+            "def f(a):\n    return sorted(set(a), key=len)\n", "def f(a):\n    return set(a) < set(a)\n",
+            "def f(a):\n    b = a.items()\n    return b\n", "def f(a):\n    return max(a.values(), default=0)\n",
+            "def f(a):\n    return list(reversed(range(a)))\n", "def f(a):\n    return int(a, base=8)\n",
+            "def f(a):\n    return sorted(a, k=len)\n", "x = 1\nx = 2\n",
+            "class A:\n    pass\ndef f(A):\n    return A\n",
+            "from askviews.terms import is_term\ndef f(a):\n    is_term = a\n    return is_term\n",
         ):
             with self.subTest(source=source[:60]):
                 self.assertNotEqual(faults_of(source), [])
