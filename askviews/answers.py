@@ -19,29 +19,61 @@ def counted(question, tables):
 
 def counts_of(question, tables):
     head, atoms = question
-    ends = ends_of(question)
-    kept = []
-    maps = {(): 1}
-    # Atom by atom in their order: only for the first atoms, not for any others, is it bounded how many maps there are.
-    for number, atom in enumerate(atoms):
-        fresh = [unknown for unknown in unknowns_of(((), (atom,))) if unknown not in kept]
-        longer = extended(maps, kept, fresh, atom[1], rows_of(tables, atom[0]))
-        bound = kept + fresh
-        kept = [unknown for unknown in bound if ends[unknown] > number]
-        maps = narrowed(longer, bound, kept)
-    return narrowed(list(maps.items()), kept, head)
+    asking = Asking(tables)
+    left = list(atoms)
+    while left:
+        atom = left.pop(asking.best_place(left))
+        asking.take(atom, needed_terms(head, left))
+    return narrowed(list(asking.maps.items()), asking.kept, head)
 
 
-def ends_of(question):
-    # The head comes last of all: what stands in it is needed to the end.
-    head, atoms = question
-    ends = {}
-    for number, atom in enumerate(atoms):
-        for term in atom[1]:
-            ends[term] = number
-    for term in head:
-        ends[term] = len(atoms)
-    return ends
+def needed_terms(head, atoms):
+    needed = dict(zip(head, head))
+    for name, terms in atoms:
+        needed.update(dict(zip(terms, terms)))
+    return needed
+
+
+class Asking:
+    def __init__(self, tables):
+        self.tables = tables
+        self.kept = []
+        self.maps = {(): 1}
+        self.tails = {}
+
+    def best_place(self, atoms):
+        # Which atom comes next changes no answer, but how many maps are kept on the way: so the one that makes fewest.
+        best, fewest = 0, None
+        for place, atom in enumerate(atoms):
+            count = sum([len(tails) for tails in self.tails_of_maps(atom)])
+            if fewest is None or count < fewest:
+                best, fewest = place, count
+            if count <= len(self.maps):
+                return place
+        return best
+
+    def take(self, atom, needed):
+        bound = self.kept + self.fresh_unknowns(atom)
+        longer = []
+        for counted_map, tails in zip(self.maps.items(), self.tails_of_maps(atom)):
+            given, count = counted_map
+            longer.extend([(given + tail, count) for tail in tails])
+        self.kept = [unknown for unknown in bound if unknown in needed]
+        self.maps = narrowed(longer, bound, self.kept)
+
+    def fresh_unknowns(self, atom):
+        return [unknown for unknown in unknowns_of(((), (atom,))) if unknown not in self.kept]
+
+    def tails_of_maps(self, atom):
+        # So no map is tried with each row: what it gives already leads to the rows that go with it.
+        fresh = self.fresh_unknowns(atom)
+        known = [term for term in atom[1] if term not in fresh]
+        key = (atom, tuple(known))
+        if key not in self.tails:
+            self.tails[key] = tails_by_key(rows_of(self.tables, atom[0]), atom[1], known, fresh)
+        tails = self.tails[key]
+        places = places_of(self.kept)
+        return [tails.get(image(known, places, given), []) for given in self.maps]
 
 
 def narrowed(counted_maps, unknowns, terms):
@@ -65,17 +97,6 @@ def image(terms, places, given):
     return tuple([given[places[term]] if term in places else term for term in terms])
 
 
-def extended(maps, kept, fresh, terms, rows):
-    known = [term for term in terms if term not in fresh]
-    tails = tails_by_key([row for row in rows if is_image(row, terms)], terms, known, fresh)
-    places = places_of(kept)
-    longer = []
-    for given, count in maps.items():
-        for tail in tails.get(image(known, places, given), []):
-            longer.append((given + tail, count))
-    return longer
-
-
 def is_image(row, terms):
     if len(row) != len(terms):
         return False
@@ -83,9 +104,9 @@ def is_image(row, terms):
 
 
 def tails_by_key(rows, terms, known, fresh):
-    # So no map is tried with each row: what it gives already leads to the rows that go with it.
     tails = {}
     for row in rows:
-        key = tuple([row[terms.index(term)] for term in known])
-        tails.setdefault(key, []).append(tuple([row[terms.index(term)] for term in fresh]))
+        if is_image(row, terms):
+            key = tuple([row[terms.index(term)] for term in known])
+            tails.setdefault(key, []).append(tuple([row[terms.index(term)] for term in fresh]))
     return tails

@@ -31,8 +31,16 @@ def fitted(given, terms, aim):
 class MapSearch:
     def __init__(self, atoms):
         self.aims = {}
-        for name, terms in sorted(set(atoms)):
-            self.aims.setdefault(name, []).append(terms)
+        self.vain = {}
+        self.add(atoms)
+
+    def add(self, atoms):
+        # There may be very many aims: so they are kept by each term that they have, at its place, too.
+        for name, terms in atoms:
+            self.aims.setdefault((name, len(terms)), {})[terms] = True
+            for place, term in enumerate(terms):
+                self.aims.setdefault((name, len(terms), place, term), {})[terms] = True
+        # What had no map before may have one now.
         self.vain = {}
 
     def mapped(self, atoms, given):
@@ -48,19 +56,26 @@ class MapSearch:
         key = (tuple(part), tuple([tuple([given.get(term) for term in terms]) for name, terms in part]))
         if key in self.vain:
             return None
-        ways = [self.ways_of(atom, given) for atom in part]
-        counts = [len(found) for found in ways]
+        aims = [self.aims_of(atom, given) for atom in part]
+        counts = [len(found) for found in aims]
         place = counts.index(min(counts))
-        for way in ways[place]:
-            whole = self.mapped(part[:place] + part[place + 1:], way)
+        for aim in aims[place]:
+            way = fitted(given, part[place][1], aim)
+            whole = None if way is None else self.mapped(part[:place] + part[place + 1:], way)
             if whole is not None:
                 return whole
         self.vain[key] = True
         return None
 
-    def ways_of(self, atom, given):
-        ways = [fitted(given, atom[1], aim) for aim in self.aims.get(atom[0], [])]
-        return [way for way in ways if way is not None]
+    def aims_of(self, atom, given):
+        name, terms = atom
+        fixed = [place for place, term in enumerate(terms) if term in given or not is_unknown(term)]
+        bound = [(place, given.get(terms[place], terms[place])) for place in fixed]
+        found = self.aims.get((name, len(terms)), {})
+        for place, term in bound:
+            closer = self.aims.get((name, len(terms), place, term), {})
+            found = closer if len(closer) < len(found) else found
+        return [aim for aim in found if all([aim[place] == term for place, term in bound])]
 
 
 def parts_of(atoms, given):

@@ -23,6 +23,13 @@ def rows_of(tables, name):
     return sorted(set(tables.get(name, [])))
 
 
+def tables_of(atoms):
+    tables = {}
+    for name, row in atoms:
+        tables.setdefault(name, []).append(row)
+    return sorted_tables(tables)
+
+
 def sorted_tables(tables):
     told = {}
     for name in sorted(tables):

@@ -2,7 +2,7 @@
 
 from askviews.maps import found_map, image
 from askviews.questions import terms_of, unknowns_of
-from askviews.tables import sorted_tables
+from askviews.tables import tables_of
 from askviews.terms import new_values
 
 
@@ -37,7 +37,5 @@ def parted(one, other):
     unknowns = unknowns_of(one)
     values = new_values(len(unknowns), terms_of(one) + terms_of(other))
     given = dict(zip(unknowns, values))
-    tables = {}
-    for name, terms in one[1]:
-        tables.setdefault(name, []).append(image(terms, given))
-    return ("parted", sorted_tables(tables), image(one[0], given))
+    tables = tables_of([(name, image(terms, given)) for name, terms in one[1]])
+    return ("parted", tables, image(one[0], given))

@@ -5,6 +5,8 @@ import itertools
 import reprlib
 import unittest
 
+from askviews.terms import is_unknown
+
 
 class Truths(unittest.TestCase):
     def tells(self, told, expected, thing):
@@ -80,6 +82,71 @@ def maps_plainly(one, other):
     return [pairs for pairs in tried if is_map_plainly(one, other, pairs)]
 
 
+def has_map_plainly(one, other):
+    """Whether there is a map from the other one to the one: each atom in its order, to each atom of the one."""
+    def fitted(given, terms, aim):
+        longer = dict(given)
+        right = [longer.setdefault(term, aimed) == aimed if term[0] == "?" else term == aimed
+                 for term, aimed in zip(terms, aim)]
+        return longer if len(terms) == len(aim) and all(right) else None
+
+    def goes_on(atoms, given):
+        if given is None or not atoms:
+            return given is not None
+        name, terms = atoms[0]
+        return any(goes_on(atoms[1:], fitted(given, terms, aim)) for table, aim in one[1] if table == name)
+
+    return goes_on(other[1], fitted({}, other[0], one[0]))
+
+
+def same_plainly(one, other):
+    return has_map_plainly(one, other) and has_map_plainly(other, one)
+
+
+def is_answer_plainly(question, tables, row):
+    """As 10 says it: some map leads the head to this row, and each atom to a row of the tables."""
+    rows = tuple([(name, held) for name in tables for held in sorted(set(tables[name]))])
+    return has_map_plainly((row, rows), question)
+
+
+def is_unfolded_plainly(views, question, told):
+    """As 17 says it, of what was told as the question unfolded."""
+    if type(told) is not tuple or [type(part) for part in told] != [tuple, tuple] or told[0] != question[0]:
+        return False
+    left = list(told[1])
+    earlier = unknowns_plainly(question)
+    for name, terms in question[1]:
+        head, atoms = dict(views)[name]
+        given = dict(zip(head, terms))
+        for table, held in atoms:
+            if not left or type(left[0]) is not tuple or type(left[0][1]) is not tuple:
+                return False
+            told_table, told_terms = left.pop(0)
+            right = [given.setdefault(term, told_term) == told_term if term[0] == "?" else term == told_term
+                     for term, told_term in zip(held, told_terms)]
+            if told_table != table or len(told_terms) != len(held) or not all(right):
+                return False
+        fresh = [given[unknown] for unknown in given if unknown not in head]
+        if len(set(fresh + earlier)) < len(fresh) + len(earlier) or not all([is_unknown(term) for term in fresh]):
+            return False
+        earlier = earlier + fresh
+    return left == []
+
+
+def unfolded_plainly(views, question):
+    """As 17 says it, with names of new unknowns that no test uses elsewhere."""
+    atoms = []
+    for place, (name, terms) in enumerate(question[1]):
+        head, held_atoms = dict(views)[name]
+        given = dict(zip(head, terms))
+        for table, held in held_atoms:
+            for term in held:
+                if term[0] == "?":
+                    given.setdefault(term, "?z" + str(place) + "z" + term[1:])
+            atoms.append((table, tuple([given.get(term, term) for term in held])))
+    return (question[0], tuple(atoms))
+
+
 def are_told_tables(tables):
     """As 8 says it of tables that are told."""
     if type(tables) is not dict:
@@ -120,6 +187,18 @@ def some_question(chance, names, terms, fewest, most, longest, longest_head):
     heads = unknowns_plainly(((), atoms)) * 2 + [term for term in terms if term[0] != "?"][:1]
     length = chance.randrange(longest_head + 1) if heads else 0
     return (tuple([chance.choice(heads) for unused in range(length)]), atoms)
+
+
+def some_views(chance, called, names, terms, most, longest):
+    """One view at most for each letter that it may be called by."""
+    views = []
+    for name in called:
+        atoms = some_atoms(chance, names, terms, 1, most, longest)
+        unknowns = unknowns_plainly(((), atoms))
+        if unknowns:
+            length = chance.randrange(1, min(len(unknowns), 4) + 1)
+            views.append((name, (tuple(chance.sample(unknowns, length)), atoms)))
+    return views
 
 
 def some_tables(chance, names, values, most, longest):

@@ -193,6 +193,26 @@ class Promise9ToldTables(Asked):
         self.tells((("?c",), atoms), {"r": rows}, [(("c",), 8 ** 8)])
         self.tells((("?0",), atoms * 2), {"r": rows[:4]}, [(("b" + str(number),), 4 ** 7) for number in range(4)])
 
+    def test_many_maps_of_atoms_that_are_bound_only_later_on(self):
+        rows = [("v" + str(number),) for number in range(60)]
+        free = tuple([("r", ("?" + str(number),)) for number in range(9)])
+        behind = tuple([("s", ("?" + str(number), "?a")) for number in range(9)])
+        tables = {"r": rows, "s": [row + ("a",) for row in rows[:2]]}
+        self.tells(((), free + behind), tables, [((), 2 ** 9)])
+        self.tells((("?3",), free + behind), tables, [(row, 2 ** 8) for row in rows[:2]])
+        self.tells((("?a",), free + behind + (("r", ("?a",)),)), tables, [])
+        self.tells(((), free), tables, [((), 60 ** 9)])
+
+    def test_many_maps_of_atoms_that_each_make_more(self):
+        rows = [("v" + str(number), "w" + str(number)) for number in range(60)]
+        free = tuple([("p", ("?" + str(number), "?a" + str(number))) for number in range(8)])
+        behind = tuple([("q", ("?a" + str(number), "?b" + str(number))) for number in range(8)])
+        tables = {"p": rows, "q": [(row[1], value) for row in rows for value in "xy"]}
+        self.tells(((), free + behind), tables, [((), 120 ** 8)])
+        self.tells((("?b0",), free + behind), tables, [((value,), 60 * 120 ** 7) for value in "xy"])
+        expected = [(row, 60 ** 4 * 120 ** 4) for row in itertools.product("xy", repeat=4)]
+        self.tells((("?b7", "?b0", "?b3", "?b4"), free + behind), tables, expected)
+
     def test_an_unknown_that_comes_again_behind_others(self):
         rows = [("1", "2"), ("2", "1"), ("1", "1")]
         text = "?y : r ?x ?y , r ?z ?u , r ?v ?w , r ?y ?x , r ?w ?v , r ?u ?u"

@@ -19,6 +19,7 @@ NEVER = set("register mro elements open input version_info with_traceback add_no
 WORDS = re.compile(r"\b(type|typing|typing_extensions|enum|Enum|IntEnum|StrEnum|Flag|IntFlag|Generic|Protocol|ABC"
                    r"|ABCMeta|namedtuple|NamedTuple|TypedDict|TYPE_CHECKING|abstractmethod)\b"
                    r"|dataclass|overload|contextmanager")
+VALUE_NAMES = set("count index title find get join lower upper split strip copy add".split())
 WALKED = set("zip enumerate reversed range".split())
 WALKED_METHODS = set("items keys values".split())
 WALKERS = set("list tuple dict sorted sum any all enumerate zip".split())
@@ -194,6 +195,62 @@ def bound_at_top(tree):
     return names
 
 
+def is_plain(node, above):
+    if isinstance(node, (ast.List, ast.Tuple)):
+        return all(is_plain(inner, above) for inner in node.elts)
+    if isinstance(node, ast.Dict):
+        return all(is_plain(inner, above) for inner in node.keys + node.values)
+    return isinstance(node, ast.Constant) or (isinstance(node, ast.Name) and node.id in above)
+
+
+def top_value_faults(tree):
+    """L3 and L15: plain values, functions defined above, and no list or dict within a list or dict."""
+    faults, above, holding = [], [], []
+    for node in tree.body:
+        if isinstance(node, ast.FunctionDef):
+            above.append(node.name)
+        if isinstance(node, ast.Assign):
+            inner = [held for held in ast.walk(node.value) if isinstance(held, (ast.List, ast.Dict))]
+            if not is_plain(node.value, above) or len(inner) > isinstance(node.value, (ast.List, ast.Dict)):
+                faults.append(f"L3 or L15 row {node.lineno}")
+            if inner:
+                holding.extend([target.id for target in node.targets])
+    parents = parents_of(tree)
+    for node in ast.walk(tree):
+        if isinstance(node, ast.Name) and isinstance(node.ctx, ast.Load) and node.id in holding:
+            if not is_only_read(node, parents[node]):
+                faults.append(f"L15 {node.id} row {node.lineno}")
+    return faults
+
+
+def is_only_read(node, parent):
+    if isinstance(parent, ast.Subscript):
+        return parent.value is node and isinstance(parent.ctx, ast.Load)
+    if isinstance(parent, (ast.For, ast.comprehension)):
+        return parent.iter is node
+    if isinstance(parent, ast.Attribute):
+        return parent.attr in {"get", "index", "count", "items", "keys", "values"}
+    return isinstance(parent, ast.Compare) or called(parent, {"len", "list", "dict", "tuple", "sorted", "enumerate"})
+
+
+def object_faults(trees):
+    """L18 and L26, over the whole package: names of methods and of the values of objects."""
+    methods, kept = set(), set()
+    for tree in trees:
+        for node in ast.walk(tree):
+            if isinstance(node, ast.ClassDef):
+                names = [inner.name for inner in node.body if isinstance(inner, ast.FunctionDef)]
+                methods |= set(names)
+                if len(set(names)) < len(names):
+                    return [f"L18 a method twice in {node.name}"]
+            if isinstance(node, ast.Attribute) and isinstance(node.ctx, ast.Store):
+                kept.add(node.attr)
+    own = {name for kind in (str, int, list, dict, set, bytes, tuple) for name in dir(kind)}
+    faults = [f"L18 {name}" for name in sorted(methods & kept)]
+    faults += [f"L26 {name}" for name in sorted(kept & (own | {"args"}) - VALUE_NAMES)]
+    return faults + [f"L26 {name}" for name in sorted((methods - DUNDERS) & own - METHODS - {"add", "discard"})]
+
+
 def drawn(tree):
     return [(node.module, name.name) for node in tree.body if isinstance(node, ast.ImportFrom) for name in node.names]
 
@@ -228,7 +285,7 @@ def import_faults(trees):
 
 def faults_of(source, own_methods=()):
     tree = ast.parse(source)
-    faults = row_faults(source) + top_faults(tree) + place_faults(tree) + name_faults(tree)
+    faults = row_faults(source) + top_faults(tree) + place_faults(tree) + name_faults(tree) + top_value_faults(tree)
     for node in ast.walk(tree):
         if not is_right(node):
             faults.append(f"{type(node).__name__} row {getattr(node, 'lineno', 0)}")
@@ -271,6 +328,15 @@ class Language(unittest.TestCase):
             trees[PACKAGE + "." + name[:-3] if name != "__init__.py" else PACKAGE] = ast.parse(source)
         self.assertEqual(import_faults(trees), [])
 
+    def test_the_methods_and_values_of_objects(self):
+        self.assertEqual(object_faults([ast.parse(source) for source in self.sources().values()]), [])
+        for source in (
+            "class A:\n    def f(self):\n        self.f = 1\n", "class A:\n    def f(self):\n        self.items = 1\n",
+            "class A:\n    def title(self):\n        return 1\n", "def f(a):\n    a.args = 1\n",
+            "class A:\n    def f(self):\n        return 1\n\n    def f(self):\n        return 2\n",
+        ):
+            self.assertNotEqual(object_faults([ast.parse(source)]), [])
+
     def test_faults_of_drawing_are_seen(self):
         defined = "def f():\n    return 1\n"
         drawing = "from askviews.a import f\n"
@@ -290,6 +356,7 @@ class Language(unittest.TestCase):
             "def f(a, b):\n    return len(set(a) | set(b))\n", "def f(a):\n    return sorted(a.items())\n",
             "def f(a):\n    return dict(zip(a, a))\n", "def f(a):\n    return [b for b in range(a)]\n",
             "def f(a):\n    return max(a, key=lambda b: b[0])\n", "def f(a, b=None):\n    return f(a, b=a)\n",
+            "def f(a):\n    return a\nX = {'a': (f, 1)}\ndef g(a):\n    return X[a][0](a) if a in X else len(X)\n",
         ):
             with self.subTest(source=source):
                 self.assertEqual(faults_of(source), [])
@@ -311,6 +378,9 @@ class Language(unittest.TestCase):
             "def f(a):\n    b = a.items()\n    return b\n", "def f(a):\n    return max(a.values(), default=0)\n",
             "def f(a):\n    return list(reversed(range(a)))\n", "def f(a):\n    return int(a, base=8)\n",
             "def f(a):\n    return sorted(a, k=len)\n", "x = 1\nx = 2\n",
+            "x = [[1]]\n", "x = {'a': [1]}\n", "x = (1, f)\ndef f(a):\n    return a\n", "x = len\n",
+            "x = [1]\ndef f(a):\n    return x\n", "x = [1]\ndef f(a):\n    x.append(a)\n",
+            "x = {}\ndef f(a):\n    x[a] = 1\n", "x = {}\ndef f(a):\n    y = x\n    return y\n",
             "class A:\n    pass\ndef f(A):\n    return A\n",
             "from askviews.terms import is_term\ndef f(a):\n    is_term = a\n    return is_term\n",
         ):
