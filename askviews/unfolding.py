@@ -2,8 +2,8 @@
 
 from askviews.errors import NoView
 from askviews.maps import image
-from askviews.questions import unknowns_of
-from askviews.terms import new_values
+from askviews.questions import terms_of, unknowns_of
+from askviews.terms import is_unknown, new_values
 
 
 def unfolded(views, question):
@@ -41,7 +41,8 @@ def check_views(kept, question):
 
 def new_unknowns(kept, question):
     count = sum([len(inner_unknowns(kept[name])) for name, terms in question[1]])
-    taken = [unknown[1:] for unknown in unknowns_of(question)]
+    # The head's too: of a rewriting that is only tried, one may stand in no atom.
+    taken = [term[1:] for term in terms_of(question) if is_unknown(term)]
     return ["?" + value for value in new_values(count, taken)]
 
 

@@ -453,12 +453,25 @@ class Promise20(Rewriting):
         self.tells(views_of(("v", "?x : r ?x ?y")), "?y : r ?x ?y", [])
         self.tells(views_of(("v", "?x : r ?x ?y"), ("w", "?y : r ?x ?y")), "?x ?y : r ?x ?y", [])
 
+    def test_unknowns_of_the_head_called_like_new_ones_that_were_told(self):
+        views = views_of(("v", "?x : r ?x ?y , s ?y ?z"), ("w", "?z : s ?y ?z"))
+        new = sorted(set(unknowns_of(unfolded(views, read(": v a , w a , v a"))))) + ["?y"]
+        self.assertEqual(len(new), 6)
+        for first, second in itertools.permutations(new, 2):
+            self.tells(views, f"{second} : r {first} {second} , s {second} {first}", [])
+            self.tells(views, f"{second} {first} : r {first} {second} , s {second} a", [])
+            self.tells(views, f"{first} : r {first} {second} , s {second} a", [])
+            self.tells(views, f"{first} : r {first} {second} , s {second} ?a", [[0]])
+            self.loose(views, f"{second} : r {first} {second} , s {second} {first}")
+            self.short(views, f"{first} : r {first} {second} , s {second} a")
+            self.whole(views, f"{first} : r {first} {second} , s {second} ?a", 1)
+
     def test_against_all_sets_tried(self):
         chance = random.Random(20)
         several = 0
         for unused in range(400):
             views = some_views(chance, "vrw", "r", ["?x", "?y", "?z"], 2, 2)
-            question = some_question(chance, "r", ["?x", "?y", "?u", "a"], 1, 4, 2, 1)
+            question = some_question(chance, "r", ["?x", "?n0", "?u", "a"], 1, 4, 2, 1)
             if len(candidates(views, question)) > 7:
                 continue
             told = spare_ways(views, question)
@@ -472,8 +485,8 @@ class Promise4(Rewriting):
         chance = random.Random(19)
         seen_kinds = {"whole": 0, "loose": 0, "short": 0}
         for unused in range(500):
-            views = some_views(chance, "vrw", "r", ["?x", "?y", "?z", "a"], 2, 2)
-            question = some_question(chance, "r", ["?x", "?y", "?u", "a"], 1, 4, 2, 2)
+            views = some_views(chance, "vrw", "r", ["?x", "?y", "?n1", "n1"], 2, 2)
+            question = some_question(chance, "r", ["?n1", "?n0", "?u", "n1"], 1, 4, 2, 2)
             found = candidates_plainly(views, question)
             if len(found) > 10:
                 self.refused(views, question)
