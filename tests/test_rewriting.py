@@ -458,11 +458,12 @@ class Promise20(Rewriting):
         new = sorted(set(unknowns_of(unfolded(views, read(": v a , w a , v a"))))) + ["?y"]
         self.assertEqual(len(new), 6)
         for first, second in itertools.permutations(new, 2):
+            self.tells(views, f"{second} : r {first} {second} , s {second} ?a", [])
             self.tells(views, f"{second} : r {first} {second} , s {second} {first}", [])
             self.tells(views, f"{second} {first} : r {first} {second} , s {second} a", [])
             self.tells(views, f"{first} : r {first} {second} , s {second} a", [])
             self.tells(views, f"{first} : r {first} {second} , s {second} ?a", [[0]])
-            self.loose(views, f"{second} : r {first} {second} , s {second} {first}")
+            self.loose(views, f"{second} : r {first} {second} , s {second} ?a")
             self.short(views, f"{first} : r {first} {second} , s {second} a")
             self.whole(views, f"{first} : r {first} {second} , s {second} ?a", 1)
 
